@@ -3,6 +3,9 @@ package assay
 
 import (
 	"assay/api"
+	"assay/lineage"
+	"assay/proof"
+	"assay/refusal"
 	"assay/shape"
 	"assay/wire"
 )
@@ -17,7 +20,8 @@ func Encode(p api.Program) (string, api.Errno) {
 
 // Decode reads a program (P4).
 func Decode(bytes string) (api.Program, api.Errno) {
-	p, errno := read(bytes)
+	var p api.Program
+	errno := attempt(func() { p = wire.Read(bytes) })
 	if errno != api.OK {
 		return api.Program{}, errno
 	}
@@ -28,34 +32,68 @@ func Decode(bytes string) (api.Program, api.Errno) {
 	return p, api.OK
 }
 
-// read turns the panic by which wire.Read gives up into an error.
-func read(bytes string) (p api.Program, errno api.Errno) {
+// attempt turns the panic by which one gives up deep inside into an error.
+func attempt(do func()) (errno api.Errno) {
 	defer func() {
 		cause := recover()
 		if cause == nil {
 			return
 		}
-		refusal, ok := cause.(wire.Refusal)
+		given, ok := cause.(refusal.Refusal)
 		if !ok {
-			// A fault of the program itself: ErrBytes would lay it to the bytes.
+			// A fault of the program itself: an error would lay it to the caller.
 			panic(cause)
 		}
-		p, errno = api.Program{}, refusal.Why
+		errno = given.Why
 	}()
-	return wire.Read(bytes), api.OK
+	do()
+	return api.OK
 }
 
 // Form tells whether a program is one (P3).
 func Form(p api.Program) api.Errno { return shape.Check(p) }
 
 // Infer is the least solution of a method (P5).
-func Infer(p api.Program, class int, method int) ([]api.Frame, api.Errno) { return nil, api.OK }
+func Infer(p api.Program, class int, method int) ([]api.Frame, api.Errno) {
+	m, errno := find(p, class, method)
+	if errno != api.OK {
+		return nil, errno
+	}
+	var frames []api.Frame
+	errno = attempt(func() { frames = proof.Solve(p, class, m) })
+	return frames, errno
+}
+
+// find is a class's own method of this number, in a program that holds.
+func find(p api.Program, class int, method int) (api.Method, api.Errno) {
+	if errno := shape.Check(p); errno != api.OK {
+		return api.Method{}, errno
+	}
+	m, found := lineage.OwnMethod(p, class, method)
+	if !found {
+		return api.Method{}, api.ErrArg
+	}
+	return m, api.OK
+}
 
 // Certify gives all methods their frames (P5).
-func Certify(p api.Program) (api.Program, api.Errno) { return api.Program{}, api.OK }
+func Certify(p api.Program) (api.Program, api.Errno) {
+	if errno := shape.Check(p); errno != api.OK {
+		return api.Program{}, errno
+	}
+	var certified api.Program
+	errno := attempt(func() { certified = proof.Certify(p) })
+	return certified, errno
+}
 
 // Check passes a method (P6).
-func Check(p api.Program, class int, method int) api.Errno { return api.OK }
+func Check(p api.Program, class int, method int) api.Errno {
+	m, errno := find(p, class, method)
+	if errno != api.OK {
+		return errno
+	}
+	return attempt(func() { proof.Pass(p, class, m) })
+}
 
 // Run runs a program (P7).
 func Run(p api.Program, class int, slot int, args []int, fuel int, ask bool) (api.Outcome, api.Errno) {

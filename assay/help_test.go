@@ -123,8 +123,8 @@ func spell(numbers ...int) string {
 	return string(b)
 }
 
-// answers asks Form, Encode and Decode of one program, and holds them against
-// each other: the error is want, and beside an error stands nothing.
+// answers asks all calls of one program, and holds them against each other:
+// Form's error is want, and beside an error stands nothing.
 func answers(t *testing.T, name string, p api.Program, want api.Errno) {
 	t.Helper()
 	if e := assay.Form(p); e != want {
@@ -136,6 +136,7 @@ func answers(t *testing.T, name string, p api.Program, want api.Errno) {
 		t.Errorf("%s: Encode: %q, %d, want %d", name, text, e, want)
 	}
 	written := spell(numbers(p)...)
+	goTogether(t, name, p, want)
 	if want == api.OK {
 		if text != written {
 			t.Errorf("%s: Encode: % x, want % x", name, text, written)
@@ -147,6 +148,37 @@ func answers(t *testing.T, name string, p api.Program, want api.Errno) {
 		refused(t, name, written)
 	} else {
 		tells(t, written)
+	}
+}
+
+// goTogether asks Infer, Certify and Check of a program to which Form says this:
+// they say the same, or, of a program that holds, go together (P8).
+func goTogether(t *testing.T, name string, p api.Program, formed api.Errno) {
+	t.Helper()
+	sound := true
+	for c, class := range p.Classes[:min(len(p.Classes), api.MaxClasses)] {
+		for k := range class.Methods[:min(len(class.Methods), api.MaxMethods)] {
+			frames, e := assay.Infer(p, c, k)
+			checked := assay.Check(p, c, k)
+			sound = sound && e == api.OK
+			if formed != api.OK && (e != formed || checked != formed) {
+				t.Errorf("%s: Infer(%d, %d): %d, Check: %d, want %d", name, c, k, e, checked, formed)
+			}
+			if formed == api.OK && e != api.OK && (e != api.ErrCheck || checked != api.ErrCheck) {
+				t.Errorf("%s: Infer(%d, %d): %d, Check: %d", name, c, k, e, checked)
+			}
+			if (e == api.OK) != (len(frames) > 0) {
+				t.Errorf("%s: Infer(%d, %d): %v, %d", name, c, k, frames, e)
+			}
+		}
+	}
+	want := formed
+	if formed == api.OK && !sound {
+		want = api.ErrCheck
+	}
+	q, e := assay.Certify(p)
+	if e != want || len(q.Classes) > 0 != (want == api.OK) {
+		t.Errorf("%s: Certify: %v, %d, want %d", name, numbers(q), e, want)
 	}
 }
 

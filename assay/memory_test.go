@@ -43,17 +43,40 @@ func TestHandedIn(t *testing.T) {
 		"good":      func(p *api.Program) {},
 		"bad class": func(p *api.Program) { p.Classes[5].Super = 5 },
 		"bad code":  func(p *api.Program) { p.Classes[0].Methods[5].Code = nil },
+		"sound":     func(p *api.Program) { *p = sound() },
 	} {
 		p := full()
 		change(&p)
 		roomy(&p)
 		before := whole(&p)
-		assay.Form(p)
-		assay.Encode(p)
+		askAll(p)
 		if !reflect.DeepEqual(before, whole(&p)) {
 			t.Errorf("%s: lists that were handed in have changed", name)
 		}
 	}
+}
+
+// askAll asks all calls of a program, for each of its methods.
+func askAll(p api.Program) {
+	assay.Form(p)
+	assay.Encode(p)
+	assay.Certify(p)
+	for c, class := range p.Classes {
+		for k := range class.Methods {
+			assay.Infer(p, c, k)
+			assay.Check(p, c, k)
+		}
+	}
+}
+
+// sound is a program whose methods are, with places, and with frames that are
+// not all needed.
+func sound() api.Program {
+	m := coder(0, 3, ins(api.LOAD, 1, 0, api.IFZERO, 4, 0, api.NEW, 4, 0, api.GOTO, 5, 0, api.NEW, 5, 0,
+		api.DUP, 0, 0, api.STORE, 3, 0, api.IFNULL, 0, 0, api.NUM, 0, 0, api.RET, 0, 0), start(0), start(1, 0), start(4), start(5, 4))
+	p := kin(m)
+	p.Classes[3].Methods[0].Frames = []api.Frame{{At: 1, Locals: []api.Type{2, 0, 2, 1}, Stack: []api.Type{4}}}
+	return p
 }
 
 // P2: what is handed in is not kept: answers follow what it is at the time.
@@ -79,25 +102,95 @@ func decoded(t *testing.T) api.Program {
 	return p
 }
 
-// P2: no two lists that Decode gives lie in the same memory, nor does their
-// spare room, in one answer or in two.
-func TestApart(t *testing.T) {
-	p, q := decoded(t), decoded(t)
+// certifiedSound is what Certify gives for p.
+func certifiedSound(t *testing.T, p api.Program) api.Program {
+	t.Helper()
+	q, e := assay.Certify(p)
+	if e != api.OK || len(q.Classes[kinClass].Methods[kinMethod].Frames) == 0 {
+		t.Fatalf("Certify: %v, %d", numbers(q), e)
+	}
+	return q
+}
+
+// inferred is what Infer gives for p, as the frames of a program of its own.
+func inferred(t *testing.T, p api.Program) api.Program {
+	t.Helper()
+	frames, e := assay.Infer(p, kinClass, kinMethod)
+	if e != api.OK || len(frames) < 2 {
+		t.Fatalf("Infer: %v, %d", frames, e)
+	}
+	return api.Program{Classes: []api.Class{{Methods: []api.Method{{Frames: frames}}}}}
+}
+
+// apart asks that no two lists lie in the same memory, nor their spare room.
+func apart(t *testing.T, programs ...*api.Program) {
+	t.Helper()
 	type span struct {
 		name     string
 		from, to uintptr
 	}
 	var spans []span
-	for _, l := range append(walk(&p, reflect.Slice), walk(&q, reflect.Slice)...) {
-		if l.value.Cap() > 0 {
-			from := l.value.Pointer()
-			spans = append(spans, span{l.name, from, from + uintptr(l.value.Cap())*l.value.Type().Elem().Size()})
+	for _, p := range programs {
+		for _, l := range walk(p, reflect.Slice) {
+			if l.value.Cap() > 0 {
+				from := l.value.Pointer()
+				spans = append(spans, span{l.name, from, from + uintptr(l.value.Cap())*l.value.Type().Elem().Size()})
+			}
 		}
 	}
 	for k, a := range spans {
 		for _, b := range spans[:k] {
 			if a.from < b.to && b.from < a.to {
 				t.Errorf("%s and %s share memory", a.name, b.name)
+			}
+		}
+	}
+}
+
+// P2: no two lists that come out lie in the same memory, nor does their spare
+// room, in one answer or in two, nor in that of what was handed in.
+func TestApart(t *testing.T) {
+	p, q := decoded(t), decoded(t)
+	apart(t, &p, &q)
+	in := sound()
+	roomy(&in)
+	p, q = certifiedSound(t, in), certifiedSound(t, in)
+	i, j := inferred(t, in), inferred(t, in)
+	apart(t, &in, &p, &q, &i, &j)
+}
+
+// P2: what Infer and Certify gave stays as it is, whatever becomes of what was
+// handed in; writing into it changes neither that nor a later answer.
+func TestKeptApart(t *testing.T) {
+	in := sound()
+	p, i := certifiedSound(t, in), inferred(t, in)
+	keptP, keptI := copied(p), copied(i)
+	scribble(&in)
+	if !same(p, keptP) || !same(i, keptI) {
+		t.Error("an answer has changed with what was handed in")
+	}
+	in = sound()
+	p, i = certifiedSound(t, in), inferred(t, in)
+	scribble(&p)
+	scribble(&i)
+	if !same(in, sound()) {
+		t.Error("what was handed in has changed with an answer")
+	}
+	if !same(certifiedSound(t, in), keptP) || !same(inferred(t, in), keptI) {
+		t.Error("a later answer has changed with one before it")
+	}
+}
+
+// scribble writes over all numbers of a program, and behind all its lists.
+func scribble(p *api.Program) {
+	for _, n := range walk(p, reflect.Int) {
+		n.value.SetInt(-7)
+	}
+	for _, l := range walk(p, reflect.Slice) {
+		wide := l.value.Slice(0, l.value.Cap())
+		for k := l.value.Len(); k < wide.Len(); k++ {
+			if wide.Index(k).CanInt() {
+				wide.Index(k).SetInt(-7)
 			}
 		}
 	}

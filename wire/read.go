@@ -1,14 +1,13 @@
 package wire
 
-import "assay/api"
+import (
+	"assay/api"
+	"assay/refusal"
+)
 
-// Refusal is what Read panics with, where the bytes are of no program.
-type Refusal struct {
-	Why api.Errno
-}
-
-// Read is the program that the bytes tell, or a panic with a Refusal. It looks
-// no further than it must to read on: that the program holds is not said.
+// Read is the program that the bytes tell; it gives up where they are of none.
+// It looks no further than it must to read on: that the program holds is not
+// said.
 func Read(bytes string) api.Program {
 	r := reader{rest: bytes}
 	p := api.Program{Classes: list(r.count(api.MaxClasses), r.class)}
@@ -19,7 +18,7 @@ func Read(bytes string) api.Program {
 }
 
 func giveUp() {
-	panic(Refusal{Why: api.ErrBytes})
+	refusal.GiveUp(api.ErrBytes)
 }
 
 type reader struct {
