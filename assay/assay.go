@@ -4,6 +4,7 @@ package assay
 import (
 	"assay/api"
 	"assay/lineage"
+	"assay/machine"
 	"assay/proof"
 	"assay/refusal"
 	"assay/shape"
@@ -97,5 +98,34 @@ func Check(p api.Program, class int, method int) api.Errno {
 
 // Run runs a program (P7).
 func Run(p api.Program, class int, slot int, args []int, fuel int, ask bool) (api.Outcome, api.Errno) {
-	return api.Outcome{}, api.OK
+	if errno := shape.Check(p); errno != api.OK {
+		return api.Outcome{}, errno
+	}
+	if !takesNumbers(p, class, slot, len(args)) || fuel < 0 || fuel > api.MaxFuel {
+		return api.Outcome{}, api.ErrArg
+	}
+	if !ask {
+		if errno := attempt(func() { proof.PassAll(p) }); errno != api.OK {
+			return api.Outcome{}, errno
+		}
+	}
+	return machine.Run(p, class, slot, args, fuel, ask), api.OK
+}
+
+// takesNumbers tells whether a class has a method of this slot that takes just
+// so many numbers, and nothing else.
+func takesNumbers(p api.Program, class int, slot int, count int) bool {
+	if !lineage.HasClass(p, class) {
+		return false
+	}
+	m, found := lineage.FindMethod(p, class, slot)
+	if !found || len(m.Args) != count {
+		return false
+	}
+	for _, t := range m.Args {
+		if t != api.Int {
+			return false
+		}
+	}
+	return true
 }

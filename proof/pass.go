@@ -8,6 +8,15 @@ import (
 	"assay/state"
 )
 
+// PassAll passes all methods of a program.
+func PassAll(p api.Program) {
+	for c, class := range p.Classes {
+		for _, m := range class.Methods {
+			Pass(p, c, m)
+		}
+	}
+}
+
 // Pass goes through a method of a class once, from the front to the end, and
 // gives up if it fails.
 func Pass(p api.Program, class int, m api.Method) {
