@@ -3,6 +3,7 @@ package assay_test
 import (
 	"encoding/binary"
 	"math"
+	"slices"
 	"testing"
 
 	"assay/api"
@@ -151,7 +152,30 @@ func answers(t *testing.T, name string, p api.Program, want api.Errno) {
 	}
 }
 
-// goTogether asks Infer, Certify and Check of a program to which Form says this:
+// runTogether asks Run of a program to which Form says this, one slot a class:
+// it says the same, or, of a program that holds, what the words say.
+func runTogether(t *testing.T, name string, p api.Program, formed api.Errno) {
+	t.Helper()
+	for c := range api.MaxClasses {
+		slot := c
+		if formed != api.OK {
+			refusesRun(t, name, p, c, slot, nil, 9, formed)
+			continue
+		}
+		if c >= len(p.Classes) || !slices.Contains(slotsOf(p, c), slot) {
+			refusesRun(t, name, p, c, slot, nil, 9, api.ErrArg)
+			continue
+		}
+		types := (&plainly{p: p}).method(c, slot).Args
+		if slices.ContainsFunc(types, func(t api.Type) bool { return t != api.Int }) {
+			refusesRun(t, name, p, c, slot, make([]int, len(types)), 9, api.ErrArg)
+			continue
+		}
+		runAs(t, p, c, slot, make([]int, len(types)), 9)
+	}
+}
+
+// goTogether asks Infer, Certify, Check and Run of a program to which Form says this:
 // they say the same, or, of a program that holds, go together (P8).
 func goTogether(t *testing.T, name string, p api.Program, formed api.Errno) {
 	t.Helper()
@@ -172,6 +196,7 @@ func goTogether(t *testing.T, name string, p api.Program, formed api.Errno) {
 			}
 		}
 	}
+	runTogether(t, name, p, formed)
 	want := formed
 	if formed == api.OK && !sound {
 		want = api.ErrCheck

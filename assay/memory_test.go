@@ -65,6 +65,9 @@ func askAll(p api.Program) {
 		for k := range class.Methods {
 			assay.Infer(p, c, k)
 			assay.Check(p, c, k)
+			for _, ask := range []bool{true, false} {
+				assay.Run(p, c, class.Methods[k].Slot, make([]int, len(class.Methods[k].Args)), 100, ask)
+			}
 		}
 	}
 }

@@ -41,13 +41,19 @@ func (r maker) ins(length int) api.Ins {
 	return api.Ins{Op: op}
 }
 
-// method is a random method: each instruction fits what stands there if one
-// comes from the one ahead, or if it is come to by a jump, mostly.
+// method is a random method for kin.
 func (r maker) method() api.Method {
 	m := coder([]api.Type{0, 3, 4, 6}[r.Intn(4)], 1+r.Intn(4), make([]api.Ins, 2+r.Intn(14)))
 	p := kin(coder(m.Ret, 1, ins(api.RET, 0, 0)))
 	m.Slot, m.Args = 2, []api.Type{api.Int, ofClass(3)}
-	first := beginning(kinClass, m)
+	r.code(p, kinClass, m, func() api.Ins { return r.ins(len(m.Code)) })
+	return m
+}
+
+// code writes a method's code: each instruction fits what stands there if one
+// comes from the one ahead, or if it is come to by a jump, mostly.
+func (r maker) code(p api.Program, class int, m api.Method, pick func() api.Ins) {
+	first := beginning(class, m)
 	s := first
 	planned := map[int]typing{}
 	for at := range m.Code {
@@ -56,7 +62,7 @@ func (r maker) method() api.Method {
 		}
 		planned[at] = s
 		for try := range 40 {
-			m.Code[at] = r.ins(len(m.Code))
+			m.Code[at] = pick()
 			// Without this most would run out.
 			if try == 0 && at == len(m.Code)-2 {
 				m.Code[at] = pushing(m.Ret)
@@ -85,7 +91,6 @@ func (r maker) method() api.Method {
 			break
 		}
 	}
-	return m
 }
 
 // frame is a random one, for the most part near to one that is known.

@@ -9,8 +9,8 @@ import (
 // isReady tells whether all is as the instruction at hand must have it.
 //
 // Null as the object of GET, PUT or CALL is: with it the run ends otherwise
-// than with Fault. It hides no Fault that would be asked for behind it, since
-// of these three each leaves no more than it takes.
+// than with Fault. That hides no Fault, since these need no room, which alone
+// would be asked for behind it.
 func (m *machine) isReady(f *frame, ins api.Ins) bool {
 	wanted := m.wants(f, ins)
 	rest := len(f.stack) - len(wanted)
@@ -25,7 +25,7 @@ func (m *machine) isReady(f *frame, ins api.Ins) bool {
 	if ins.Op == api.LOAD && f.locals[ins.A].kind == api.Top {
 		return false
 	}
-	return rest+countLeft(ins.Op) <= f.method.Stack
+	return !needsRoom(ins.Op) || len(f.stack) < f.method.Stack
 }
 
 // wants is the types of what an instruction takes, the top one last.
@@ -54,13 +54,12 @@ func (m *machine) wants(f *frame, ins api.Ins) []api.Type {
 	return nil
 }
 
-// countLeft is how many values an instruction leaves in place of those it takes.
-func countLeft(op int) int {
+// needsRoom tells whether an instruction leaves one value more than it takes.
+// All others leave no more than they take, and so have room for it.
+func needsRoom(op int) bool {
 	switch op {
-	case api.STORE, api.GOTO, api.IFZERO, api.PUT, api.RET, api.POP, api.IFNULL, api.PRINT:
-		return 0
-	case api.DUP, api.SWAP:
-		return 2
+	case api.NUM, api.LOAD, api.NEW, api.NULL, api.DUP:
+		return true
 	}
-	return 1
+	return false
 }

@@ -7,8 +7,8 @@ import (
 
 // value is a number, or null, or an object.
 //
-// Its kind is there for the machine that asks. What instructions do never
-// hangs on it: they know from what passed which of the others to take.
+// Its kind is there to be asked for. What instructions do never hangs on it, so
+// that they do the same on the machine that does not ask.
 type value struct {
 	kind   api.Type // Int, Null or a class's; Top, where nothing was put
 	number int
